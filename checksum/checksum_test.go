@@ -71,7 +71,7 @@ func longStrings() []string {
 	return l
 }
 
-// sampleSums returns numbers that are checksums, of some string or of none, with the ends of the ranges of both sums.
+// sampleSums returns checksums, with the ends of the ranges of both sums.
 func sampleSums() []int {
 	parts := []int{0, 1, 2, 98, 255, 256, 32767, 32768, 65279, 65519, 65520}
 	var l []int
